@@ -1,0 +1,1 @@
+"""Manydoors: an inn's rooms let by many doors."""
