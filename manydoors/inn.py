@@ -115,12 +115,17 @@ def kept_of(setup, party):
     return sum([price * share // 100 for price in night_prices(setup, party)])
 
 
+def rooms_by_cell(rooms, nights):
+    """Return the dictionary from all cells of the inn to the numbers of rooms of their kinds."""
+    return {(kind, night): rooms[kind] for kind in range(len(rooms)) for night in range(nights)}
+
+
 class Book:
     """The plain book: the parties that are kept, by names (seller, number)."""
 
     def __init__(self, rooms, nights):
         self._parties = {}
-        self._free = {(kind, night): rooms[kind] for kind in range(len(rooms)) for night in range(nights)}
+        self._free = rooms_by_cell(rooms, nights)
 
     def wish(self, name, party):
         """Keep the party by the name if it fits; tell whether it is granted."""

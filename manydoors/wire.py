@@ -1,5 +1,8 @@
 """The wire: what a desk keeps for its letters with one other desk."""
 
+# The number of the house among the desks; the sellers are numbered from 0.
+HOUSE = -1
+
 
 class Wire:
     """The count and the outbox of the direction out, and the expected number of the direction in."""

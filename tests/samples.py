@@ -17,6 +17,11 @@ def stays_of(kinds, nights):
     ]
 
 
+def cells_of(setup):
+    """Return the set of all cells of an inn."""
+    return {(kind, night) for kind in range(len(setup[0])) for night in range(setup[1])}
+
+
 def parties_of(kinds, nights, most):
     """Return all parties of 1 to most stays of an inn."""
     stays = stays_of(kinds, nights)

@@ -5,8 +5,12 @@ import inspect
 import unittest
 
 from manydoors import errors
+from manydoors.house import House
 from manydoors.inn import Book
+from manydoors.seller import Seller
 from manydoors.wire import Wire
+from manydoors.world import World
+from tests.samples import SETUP
 
 FUNCTIONS = {
     "manydoors.inn": {
@@ -34,6 +38,44 @@ METHODS = {
         "take": ["self", "number"],
         "acknowledged": ["self", "number"],
     },
+    ("manydoors.seller", "Seller"): {
+        "__init__": ["self", "setup", "number"],
+        "ask": ["self", "deed"],
+        "handle": ["self", "body"],
+        "bodies": ["self"],
+        "answers": ["self"],
+    },
+    ("manydoors.house", "House"): {
+        "__init__": ["self", "setup"],
+        "handle": ["self", "seller", "body"],
+        "give": ["self", "seller", "kind", "night"],
+        "want": ["self", "seller", "kind", "night"],
+        "bodies": ["self"],
+    },
+    ("manydoors.world", "World"): {
+        "__init__": ["self", "setup", "deeds"],
+        "choose": ["self", "choice"],
+        "settle": ["self"],
+        "hands": ["self", "kind", "night"],
+    },
+}
+
+FIELDS = {
+    "Seller": {"free": dict, "vouchers": dict, "book": list, "asked": dict, "waiting": list},
+    "House": {"stock": dict, "books": list, "queue": list},
+    "World": {
+        "setup": tuple,
+        "house": House,
+        "sellers": list,
+        "net": list,
+        "history": list,
+        "down": list,
+        "deeds": list,
+        "asked": list,
+        "house_wires": list,
+        "seller_wires": list,
+    },
+    "Wire": {"sent": int, "outbox": list, "expected": int},
 }
 
 ERRORS = ["BadSetup", "BadDeed", "BadStay", "BadHistory", "BadText", "BadLine"]
@@ -69,6 +111,25 @@ class InterfaceTest(unittest.TestCase):
         self.assertIs(wire.take(number=0), True)
         wire.acknowledged(number=0)
         self.assertEqual(wire.outbox, [])
+        seller = Seller(setup=SETUP, number=1)
+        self.assertEqual(seller.ask(deed=("cancel", 0)), 0)
+        seller.handle(body=("give", 0, 0))
+        house = House(setup=SETUP)
+        self.assertIs(house.give(seller=1, kind=0, night=0), True)
+        house.want(seller=1, kind=0, night=0)
+        house.handle(seller=1, body=("back", 0, 0))
+        world = World(setup=SETUP, deeds=[[], []])
+        world.choose(choice=9)
+        self.assertEqual(world.hands(kind=1, night=0), {("house",): 1})
+
+    def test_each_object_has_its_fields(self):
+        made = [Wire(), Seller(SETUP, 0), House(SETUP), World(SETUP, [[], []])]
+        for thing in made:
+            for name, form in FIELDS[type(thing).__name__].items():
+                with self.subTest(field=name):
+                    self.assertIs(type(vars(thing)[name]), form)
+        self.assertIn("closing", vars(made[1]))
+        self.assertIn("round", vars(made[2]))
 
 
 class ErrorsTest(unittest.TestCase):
