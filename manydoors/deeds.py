@@ -1,6 +1,6 @@
-"""Deeds: what a deed names and asks for, and what it needs beyond a voucher."""
+"""Deeds: what a deed names and asks for, what it needs beyond a voucher, and what the plain book makes of it."""
 
-from manydoors.inn import needs_of
+from manydoors.inn import is_deed, needs_of
 
 
 def named_by(deed):
@@ -28,3 +28,21 @@ def more_needs(party, other):
 def lack_of(deed, vouchers):
     """Return the dictionary of what the deed needs beyond the voucher that it names."""
     return more_needs(party_of(deed), old_party_of(deed, vouchers))
+
+
+def is_numbered_deed(kinds, nights, number, deed):
+    """Tell whether deed is one of an inn with so many kinds and nights, and names no number but a lesser one."""
+    if not is_deed(kinds, nights, deed):
+        return False
+    named = named_by(deed)
+    return named is None or named < number
+
+
+def do_in_book(book, name, deed):
+    """Do the deed of this name (seller, number) in the plain book; tell whether it is granted."""
+    if deed[0] == "wish":
+        return book.wish(name, deed[1])
+    kept = (name[0], deed[1])
+    if deed[0] == "cancel":
+        return book.cancel(kept)
+    return book.change(kept, deed[2])

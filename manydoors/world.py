@@ -1,10 +1,10 @@
 """The world: the desks, the letters between them, and what choices make of both."""
 
-from manydoors.deeds import named_by
+from manydoors.deeds import is_numbered_deed
 from manydoors.errors import BadDeed
 from manydoors.hands import hands_on_seller, hands_to_house, hands_to_seller
 from manydoors.house import House
-from manydoors.inn import check_deed, check_setup
+from manydoors.inn import check_setup
 from manydoors.seller import Seller
 from manydoors.wire import HOUSE, Wire
 
@@ -20,10 +20,8 @@ def check_deeds(setup, deeds):
         if not isinstance(row, list):
             raise BadDeed("the deeds of a seller are a list")
         for number, deed in enumerate(row):
-            check_deed(setup, deed)
-            named = named_by(deed)
-            if named is not None and named >= number:
-                raise BadDeed("a cancel or change names a number that is less than its own")
+            if not is_numbered_deed(len(setup[0]), setup[1], number, deed):
+                raise BadDeed("a deed has stays of the inn, and a cancel or change names a number less than its own")
 
 
 class World:
@@ -61,8 +59,7 @@ class World:
 
     def settle(self):
         """Bring all desks up, and let them tick and get all letters; tell whether all bodies are acknowledged."""
-        for desk in range(len(self.down)):
-            self.down[desk] = False
+        self._bring_up()
         for _ in range(MOST_ROUNDS):
             self._tick_all()
             while self.net:
@@ -70,6 +67,14 @@ class World:
             if self._is_acknowledged():
                 return True
         return False
+
+    def ask_rest(self):
+        """Bring all desks up, and ask all deeds that are left: one of each seller, again and again."""
+        self._bring_up()
+        # No letter is removed here, however many there are: the desk asks so before it settles.
+        for _ in range(max([len(deeds) for deeds in self.deeds])):
+            for seller in range(len(self.sellers)):
+                self._ask(seller)
 
     def hands(self, kind, night):
         """Return the dictionary of who holds how many rooms of the cell."""
@@ -82,6 +87,10 @@ class World:
             pairs.extend(hands_to_house(self.house, seller, coming, cell))
             pairs.extend(hands_to_seller(seller, going, cell))
         return {key: number for key, number in pairs if number != 0}
+
+    def _bring_up(self):
+        for desk in range(len(self.down)):
+            self.down[desk] = False
 
     def _choose_letter(self, action, argument):
         """Deliver, remove or copy a letter of the net."""

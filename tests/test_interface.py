@@ -5,9 +5,12 @@ import inspect
 import unittest
 
 from manydoors import errors
+from manydoors.desk import Desk
 from manydoors.house import House
 from manydoors.inn import Book
+from manydoors.judge import judge_books, judge_history, takings
 from manydoors.seller import Seller
+from manydoors.texts import format_book, format_history, format_party, parse_book, parse_history, parse_party
 from manydoors.wire import Wire
 from manydoors.world import World
 from tests.samples import SETUP
@@ -20,6 +23,19 @@ FUNCTIONS = {
         "price_of": ["setup", "party"],
         "kept_of": ["setup", "party"],
         "housing": ["rooms", "stays", "night", "given"],
+    },
+    "manydoors.judge": {
+        "judge_books": ["seller_book", "house_book"],
+        "judge_history": ["rooms", "nights", "history"],
+        "takings": ["book"],
+    },
+    "manydoors.texts": {
+        "format_party": ["party"],
+        "parse_party": ["text"],
+        "format_history": ["history"],
+        "parse_history": ["text"],
+        "format_book": ["book"],
+        "parse_book": ["text"],
     },
 }
 
@@ -57,6 +73,10 @@ METHODS = {
         "choose": ["self", "choice"],
         "settle": ["self"],
         "hands": ["self", "kind", "night"],
+    },
+    ("manydoors.desk", "Desk"): {
+        "__init__": ["self"],
+        "do": ["self", "line"],
     },
 }
 
@@ -121,6 +141,14 @@ class InterfaceTest(unittest.TestCase):
         world = World(setup=SETUP, deeds=[[], []])
         world.choose(choice=9)
         self.assertEqual(world.hands(kind=1, night=0), {("house",): 1})
+        self.assertEqual(judge_books(seller_book=[], house_book=[]), ("alike",))
+        self.assertEqual(judge_history(rooms=(1,), nights=1, history=[]), [])
+        self.assertEqual(takings(book=[]), 0)
+        self.assertEqual(format_party(party=((0, 0, 1),)), "0:0-1")
+        self.assertEqual(parse_party(text="0:0-1"), ((0, 0, 1),))
+        self.assertEqual((format_history(history=[]), format_book(book=[])), ("", ""))
+        self.assertEqual((parse_history(text=""), parse_book(text="")), ([], []))
+        self.assertEqual(Desk().do(line="inn 1 1 1"), "ready")
 
     def test_each_object_has_its_fields(self):
         made = [Wire(), Seller(SETUP, 0), House(SETUP), World(SETUP, [[], []])]
